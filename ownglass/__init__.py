@@ -1,0 +1,1 @@
+"""Ownglass: programs that know their own text."""
