@@ -6,6 +6,9 @@ from ownglass.errors import BadInputs
 from ownglass.nodes import Nodes
 from ownglass.programs import inputs_of
 
+# No run comes to so many steps.
+NO_LIMIT = 1000000000000
+
 
 class Run:
     """How a run went: kind is "done", "great" or "tired"; value is None unless it is done."""

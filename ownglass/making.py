@@ -17,9 +17,7 @@ def fill(program, value):
     many_inputs = inputs_of(program)
     if not 1 <= many_inputs <= MOST_INPUTS + 1:
         raise BadInputs(f"a program of {many_inputs} inputs cannot be filled")
-    parameters = made_parameters(many_inputs - 1)
-    body = (program[0][0], ("quote", value), *parameters)
-    return with_front(program, parameters, body)
+    return filled(program, value)
 
 
 def chosen(test, yes, no):
@@ -55,6 +53,21 @@ def made_name(number):
 def made_parameters(count):
     """Return the list of the first so many made parameters."""
     return tuple([f"x{number}" for number in range(1, count + 1)])
+
+
+def listing(expressions):
+    """Return the expression that has the list of the values of the expressions."""
+    expression = ("quote", ())
+    for item in reversed(expressions):
+        expression = ("join", item, expression)
+    return expression
+
+
+def filled(program, value):
+    """Return what fill returns, for a good program of one input or more."""
+    parameters = made_parameters(len(program[0][1]) - 1)
+    body = (program[0][0], ("quote", value), *parameters)
+    return with_front(program, parameters, body)
 
 
 def side_by_side(programs):

@@ -82,7 +82,9 @@ def same_values(first, second):
     waiting = [(first, second)]
     while waiting:
         one, other = waiting.pop()
-        if isinstance(one, str) or isinstance(other, str):
+        # What is no list is compared whatever it is: an answer to a claim has
+        # numbers beside its values.
+        if not isinstance(one, tuple) or not isinstance(other, tuple):
             if one != other:
                 return False
         elif len(one) != len(other):

@@ -1,12 +1,14 @@
-"""What the tests compare the program with: runs written down from the document's words, and random programs.
+"""What the tests have in common: runs written down from the document's words, random programs, and checks.
 
-It goes by calls of calls and keeps every call, so it is for short runs alone.
+A reference run goes by calls of calls and keeps every call, so it is for short runs alone.
 """
 
 import itertools
 import random
+import unittest
 
-from ownglass.texts import read_value
+from ownglass.errors import BadInputs, BadProgram, BadText, GlassError
+from ownglass.texts import read_value, write_value
 
 
 class Tired(Exception):
@@ -225,3 +227,52 @@ class Maker:
         for _ in range(self.random.choice((0, 1, 1, 1, 2))):
             part = (self.random.choice(("head", "tail")), part)
         return part
+
+
+def words(count):
+    """The made parameters as they stand in a text."""
+    return " ".join(f"x{k}" for k in range(1, count + 1))
+
+
+def with_blank(count):
+    """The same behind a space, where there is one at all."""
+    return "".join(f" x{k}" for k in range(1, count + 1))
+
+
+def takes(count, body="(quote a)"):
+    """A program of so many inputs."""
+    return read_value(f"((main ({words(count)}) {body}))")
+
+
+def lists(count):
+    """A program of so many inputs that makes a list of them, in order."""
+    body = "(quote ())"
+    for k in range(count, 0, -1):
+        body = f"(join x{k} {body})"
+    return takes(count, body)
+
+
+def some_inputs(count):
+    return [("a", "b", ("c",), (), "d", ((),), "e", "g", "h", ("i", "j"))[k] for k in range(count)]
+
+
+class GlassTest(unittest.TestCase):
+    """Checks of errors and texts."""
+
+    def check_text(self, value, text):
+        self.assertEqual(write_value(value), text)
+        self.assertIs(type(value), tuple)
+
+    def check_raises(self, error, others, call):
+        with self.assertRaises(error) as caught:
+            call()
+        self.assertIsInstance(caught.exception, GlassError)
+        self.assertIsInstance(caught.exception, ValueError)
+        self.assertNotIsInstance(caught.exception, others + (BadText,))
+        return caught.exception
+
+    def check_bad_inputs(self, call):
+        self.check_raises(BadInputs, (BadProgram,), call)
+
+    def check_bad_program(self, function, call):
+        self.assertEqual(self.check_raises(BadProgram, (BadInputs,), call).function, function)

@@ -2,12 +2,11 @@
 
 import unittest
 
-from ownglass.errors import BadInputs, BadProgram, BadText, GlassError
 from ownglass.machine import run_program
 from ownglass.making import chosen, composed, fill, renamed
 from ownglass.programs import check_program, inputs_of, names_of
 from ownglass.texts import read_value, write_value
-from reference import Maker
+from reference import GlassTest, Maker, lists, some_inputs, takes, with_blank, words
 
 WALK = "((walk (l) (if l (walk (tail l)) (quote end))))"
 TWO = "((main (x y) (swap y x)) (swap (a b) (join a (join b (quote ())))))"
@@ -51,55 +50,10 @@ RENAMED = (
 )
 
 
-def words(count):
-    """The made parameters as they stand in a text."""
-    return " ".join(f"x{k}" for k in range(1, count + 1))
-
-
-def with_blank(count):
-    """The same behind a space, where there is one at all."""
-    return "".join(f" x{k}" for k in range(1, count + 1))
-
-
-def takes(count, body="(quote a)"):
-    """A program of so many inputs."""
-    return read_value(f"((main ({words(count)}) {body}))")
-
-
-def lists(count):
-    """A program of so many inputs that makes a list of them, in order."""
-    body = "(quote ())"
-    for k in range(count, 0, -1):
-        body = f"(join x{k} {body})"
-    return takes(count, body)
-
-
-def some_inputs(count):
-    return [("a", "b", ("c",), (), "d", ((),), "e", "g", "h")[k] for k in range(count)]
-
-
-class MakingTest(unittest.TestCase):
-    def check_text(self, program, text):
-        self.assertEqual(write_value(program), text)
-        self.assertIs(type(program), tuple)
-
+class MakingTest(GlassTest):
     def check_run(self, program, inputs, value, steps):
         run = run_program(program, inputs, 100000)
         self.assertEqual((run.kind, run.value, run.steps), ("done", value, steps))
-
-    def check_raises(self, error, others, call):
-        with self.assertRaises(error) as caught:
-            call()
-        self.assertIsInstance(caught.exception, GlassError)
-        self.assertIsInstance(caught.exception, ValueError)
-        self.assertNotIsInstance(caught.exception, others + (BadText,))
-        return caught.exception
-
-    def check_bad_inputs(self, call):
-        self.check_raises(BadInputs, (BadProgram,), call)
-
-    def check_bad_program(self, function, call):
-        self.assertEqual(self.check_raises(BadProgram, (BadInputs,), call).function, function)
 
 
 class RenamedTest(MakingTest):
