@@ -40,8 +40,11 @@ def run_so_far(course, limit):
     """Return the Run of a course that has been gone along up to the limit."""
     if course.called is not None or course.steps > limit:
         return Run("tired", None, limit)
-    nodes = course.code.nodes
-    number = course.stack[-1]
+    return run_at_end(course.code.nodes, course.stack[-1], course.steps)
+
+
+def run_at_end(nodes, number, steps):
+    """Return the Run that has ended with the value that has the number."""
     if nodes.is_great(number):
-        return Run("great", None, course.steps)
-    return Run("done", nodes.value_of(number), course.steps)
+        return Run("great", None, steps)
+    return Run("done", nodes.value_of(number), steps)

@@ -167,6 +167,142 @@ def least_sure_paper(program):
     return next((paper for paper in itertools.product(*ranges) if is_sure_paper(program, paper)), None)
 
 
+class ReferenceMachine:
+    """A run of a machine program: kind, value and steps are those of Run."""
+
+    def __init__(self, program, inputs, limit):
+        self.routines = {routine[0]: routine[1:] for routine in program}
+        self.limit = limit
+        self.steps = 0
+        # The top one first, as the document has it.
+        self.stack = list(reversed(inputs))
+        try:
+            self.carry_out(program[0][1:])
+            self.value = self.at(0)
+            self.kind = "great" if parts_of(self.value) > 200000 or depth_of(self.value) > 200 else "done"
+        except Tired:
+            self.kind = "tired"
+            self.steps = limit
+        if self.kind != "done":
+            self.value = None
+
+    def at(self, place):
+        return self.stack[place] if place < len(self.stack) else ()
+
+    def take(self):
+        return self.stack.pop(0) if self.stack else ()
+
+    def carry_out(self, instructions):
+        for instruction in instructions:
+            self.steps += 1
+            if self.steps > self.limit:
+                raise Tired
+            word, *parts = instruction
+            if word == "call":
+                self.carry_out(self.routines[parts[0]])
+            elif word == "if":
+                self.carry_out(self.routines[parts[0 if self.take() != () else 1]])
+            elif word == "push":
+                self.stack.insert(0, parts[0])
+            elif word == "copy":
+                self.stack.insert(0, self.at(len(parts[0])))
+            elif word == "slide":
+                top = self.take()
+                for _ in parts[0]:
+                    self.take()
+                self.stack.insert(0, top)
+            else:
+                self.stack.insert(0, self.changed(word))
+
+    def changed(self, word):
+        top = self.take()
+        if word == "word":
+            return "yes" if isinstance(top, str) else ()
+        if word == "head":
+            return top[0] if isinstance(top, tuple) and top else ()
+        if word == "tail":
+            return top[1:] if isinstance(top, tuple) else ()
+        second = self.take()
+        if word == "same":
+            return "yes" if second == top else ()
+        return (second,) + (top if isinstance(top, tuple) else ())
+
+
+def reference_to_machine(program):
+    """The machine program of a program, by the document's words."""
+    routines = []
+    for name, parameters, body in program:
+        routines.append((name, *instructions_of(body, (name,), (), parameters), ("slide", parameters)))
+        routines += routines_of(body, (name,), (), parameters)
+    return tuple(routines)
+
+
+def parts_with_paths(expression, path, depth):
+    """The parts of an expression, each with its path and its depth."""
+    for at, part in enumerate(expression[1:]):
+        more = 0 if expression[0] == "if" else at
+        yield part, (f"p{at + 1}",) + path, ("a",) * more + depth
+
+
+def instructions_of(expression, path, depth, parameters):
+    if isinstance(expression, str):
+        return [("copy", parameters[parameters.index(expression) + 1:] + depth)]
+    word = expression[0]
+    if word == "quote":
+        return [("push", expression[1])]
+    parts = list(parts_with_paths(expression, path, depth))
+    if word == "if":
+        return instructions_of(*parts[0], parameters) + [("if", parts[1][1], parts[2][1])]
+    found = [instruction for part in parts for instruction in instructions_of(*part, parameters)]
+    return found + [(word,) if word in ("same", "word", "head", "tail", "join") else ("call", word)]
+
+
+def routines_of(expression, path, depth, parameters):
+    if isinstance(expression, str) or expression[0] == "quote":
+        return []
+    found = []
+    for at, part in enumerate(parts_with_paths(expression, path, depth)):
+        if expression[0] == "if" and at > 0:
+            found.append((part[1], *instructions_of(*part, parameters)))
+        found += routines_of(*part, parameters)
+    return found
+
+
+def reference_from_machine(program, inputs):
+    """The text of the program of a machine program, by the document's words."""
+    names = [routine[0] for routine in program]
+    made, helpers, rows = {}, [], []
+    for at, routine in enumerate(program):
+        body = "s"
+        for word, *parts in routine[1:]:
+            if word == "push":
+                body = f"(join (quote {write_value(parts[0])}) {body})"
+            elif word == "call":
+                body = f"(f{names.index(parts[0]) + 1} {body})"
+            else:
+                if word == "copy":
+                    told = f"(join (head {'(tail ' * len(parts[0])}s{')' * len(parts[0])}) s)"
+                elif word == "slide":
+                    told = f"(join (head s) {'(tail ' * (len(parts[0]) + 1)}s{')' * (len(parts[0]) + 1)})"
+                elif word == "if":
+                    full, empty = [names.index(name) + 1 for name in parts]
+                    told = f"(if (head s) (f{full} (tail s)) (f{empty} (tail s)))"
+                elif word in ("same", "join"):
+                    told = f"(join ({word} (head (tail s)) (head s)) (tail (tail s)))"
+                else:
+                    told = f"(join ({word} (head s)) (tail s))"
+                key = (word, told)
+                if key not in made:
+                    made[key] = f"f{len(program) + 1 + len(made)}"
+                    helpers.append(f"({made[key]} (s) {told})")
+                body = f"({made[key]} {body})"
+        rows.append(f"(f{at + 1} (s) {body})")
+    stack = "(quote ())"
+    for at in range(1, inputs + 1):
+        stack = f"(join x{at} {stack})"
+    return f"({' '.join([f'(f0 ({words(inputs)}) (head (f1 {stack})))', *rows, *helpers])})"
+
+
 VALUES = [read_value(text) for text in ("()", "a", "yes", "(a)", "(a b)", "((a) b ())", "(() (a (a)))", "(x x)")]
 
 
@@ -203,6 +339,23 @@ class Maker:
         else:
             word, many = self.random.choice(list(called.items()))
         return (word, *[self.expression(parameters, called, depth - 1) for _ in range(many)])
+
+    def machine(self, most_routines=4):
+        names = self.random.sample(VALUES + ["main", "call", "pi", ("p1", "main")], self.random.randint(1, most_routines))
+        return tuple((name, *[self.instruction(names) for _ in range(self.random.randint(0, 7))]) for name in names)
+
+    def instruction(self, names):
+        chance = self.random.random()
+        if chance < 0.2:
+            return ("push", self.value())
+        if chance < 0.5:
+            many = self.random.choice((0, 0, 1, 1, 2, 3))
+            return (self.random.choice(("copy", "copy", "slide")), tuple(self.value() for _ in range(many)))
+        if chance < 0.8:
+            return (self.random.choice(("same", "word", "head", "tail", "join", "join")),)
+        if chance < 0.88:
+            return ("call", self.random.choice(names))
+        return ("if", self.random.choice(names), self.random.choice(names))
 
     def shrinking_program(self):
         """A program whose calls mostly have parts of parameters, behind tests of these."""
