@@ -597,6 +597,19 @@ class GrantsTest(RefuterTest):
         claim = claim_of(2, "(same (head (head p)) (quote f3))")
         self.assertEqual(refute_grants(claim, 5, 100), ("kept", program_on_grants(claim)))
 
+    def test_claims_that_look_at_the_list(self):
+        spin = "(spin (x) (spin x))"
+        for body, more, answer in (
+                ("(same v (quote (a a a)))", "", ("wrong", 3)), ("(same (head v) (quote a))", "", ("wrong", 1)),
+                ("(same v (quote (b)))", "", ("kept",)), ("(same v (quote (a)))", "", ("wrong", 1)), ("(same v (quote ()))", "", ("wrong", 0)),
+                ("(if (same v (quote (a a))) (spin p) (quote ()))", spin, ("silent", 2)),
+                ("(if (same v (quote (b b))) (spin p) (quote ()))", spin, ("kept",))):
+            claim = claim_of(2, body, more)
+            found = refute_grants(claim, 10, 1000)
+            self.assertEqual((found[0], *found[2:3]), answer)
+            if found[0] == "silent":
+                self.check_paper(claim, [found[1], ("a",) * found[2]], found[3], 1000)
+
     def test_claims_that_say_no(self):
         for body, _ in NO:
             claim = claim_of(2, body)
